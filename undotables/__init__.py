@@ -1,0 +1,1 @@
+"""Undotables: what programs of do, undo and redo leave of a history."""
