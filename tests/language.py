@@ -35,6 +35,10 @@ SPECIAL_METHODS = ["__" + name + "__" for name in (
     "init eq repr str len enter exit call iter lt le gt ge ne add sub mul floordiv mod pow and or xor lshift rshift "
     "radd rsub rmul rfloordiv rmod rand ror rxor rlshift rrshift iadd isub imul ifloordiv imod ipow iand ior ixor "
     "ilshift irshift neg pos invert abs bool contains getitem setitem").split()]
+TAKES_A_LIST = "sum min max sorted any all".split()
+TAKES_ITERATION = "list tuple dict sorted sum any all enumerate zip bytes min max".split()
+MAY_CHANGE = "__init__ __call__ __enter__ __exit__ __setitem__".split()
+CHANGES = "append extend insert pop remove reverse clear update setdefault sort add discard".split()
 FUNCTIONS = (ast.FunctionDef, ast.Lambda)
 FORBIDDEN_NODES = (ast.Global, ast.AsyncFunctionDef, ast.AsyncFor, ast.AsyncWith, ast.Await, ast.Div)
 
@@ -261,6 +265,109 @@ def node_faults(tree):
                 yield f"L27: line {node.lineno}"
 
 
+def called_name(node):
+    """The name of the function that is called here, or None."""
+    return node.func.id if isinstance(node, ast.Call) and isinstance(node.func, ast.Name) else None
+
+
+def call_faults(tree):
+    """What is wrong with the calls, where classes of the package have operators and compare."""
+    for node in ast.walk(tree):
+        if not isinstance(node, ast.Call):
+            continue
+        name, parts = called_name(node), node.args + [keyword.value for keyword in node.keywords]
+        if name in TAKES_A_LIST and [part for part in parts if isinstance(part, ast.GeneratorExp)]:
+            yield f"L5: a generator expression in line {node.lineno}"
+        if name == "reversed" and parts and not isinstance(parts[0], (ast.List, ast.Tuple)):
+            if called_name(parts[0]) not in ("list", "tuple", "sorted", "range"):
+                yield f"L5: what is reversed in line {node.lineno}"
+        stars = [part.value for part in parts if isinstance(part, ast.Starred)]
+        if [part for part in stars if not isinstance(part, (ast.Name, ast.Attribute, ast.List, ast.Tuple))]:
+            yield f"L7: what stands behind a star in line {node.lineno}"
+
+
+def iteration_faults(tree):
+    """What is wrong with what is iterated over, and with what only may be iterated over at once."""
+    heads = []
+    for node in ast.walk(tree):
+        if isinstance(node, (ast.For, ast.comprehension)):
+            heads.append(node.iter)
+            if called_name(node.iter) == "set" or isinstance(node.iter, (ast.Set, ast.SetComp)):
+                yield f"L24: a set is iterated over in line {node.iter.lineno}"
+        elif called_name(node) in TAKES_ITERATION or isinstance(node, ast.Call) and isinstance(node.func, ast.Attribute):
+            heads.extend(node.args)
+    for node in ast.walk(tree):
+        if called_name(node) in ("zip", "enumerate", "reversed", "range") and node not in heads:
+            yield f"L23: {called_name(node)} in line {node.lineno}"
+
+
+def asks_only(node):
+    """True if this method may change nothing: an operator, a property, or one that shows or compares."""
+    if [mark for mark in node.decorator_list if isinstance(mark, ast.Name) and mark.id == "property"]:
+        return True
+    return node.name in SPECIAL_METHODS and node.name not in MAY_CHANGE
+
+
+def called_names(node):
+    """The names of the functions, methods and classes that are called in a function."""
+    for part in ast.walk(node):
+        if isinstance(part, ast.Call):
+            yield part.func.attr if isinstance(part.func, ast.Attribute) else called_name(part)
+
+
+def askers(trees):
+    """The functions and methods that may change nothing, those that others of them call included."""
+    named, classes, waiting, found = {}, {}, [], []
+    for tree in trees:
+        for node in ast.walk(tree):
+            if isinstance(node, ast.FunctionDef):
+                named.setdefault(node.name, []).append(node)
+                waiting.extend([node] if asks_only(node) else [])
+            elif isinstance(node, ast.ClassDef):
+                classes[node.name] = [part for part in node.body if getattr(part, "name", "") == "__init__"]
+    while waiting:
+        node = waiting.pop()
+        if node not in found:
+            found.append(node)
+            for name in called_names(node):
+                waiting.extend(named.get(name, []) + classes.get(name, []))
+    return found
+
+
+def own_lists(function):
+    """The local variables that are assigned nothing but lists that the function creates itself."""
+    made, other = [], [part.arg for part in function.args.args]
+    for node in ast.walk(function):
+        if isinstance(node, ast.Assign):
+            new = isinstance(node.value, (ast.List, ast.ListComp)) or called_name(node.value) in ("list", "sorted")
+            for target in node.targets:
+                names = [part.id for part in ast.walk(target) if isinstance(part, ast.Name)
+                         and isinstance(part.ctx, ast.Store)]
+                (made if new and isinstance(target, ast.Name) else other).extend(names)
+    return [name for name in made if name not in other]
+
+
+def change_faults(function):
+    """What is wrong with a function that may change nothing but lists of its own."""
+    own = own_lists(function)
+    local = [part.arg for part in function.args.args] + own
+    for node in ast.walk(function):
+        line = getattr(node, "lineno", 0)
+        if isinstance(node, ast.Attribute) and not isinstance(node.ctx, ast.Load) and function.name != "__init__":
+            yield f"L5: {function.name} assigns an attribute in line {line}"
+        elif isinstance(node, ast.Subscript) and not isinstance(node.ctx, ast.Load):
+            if not isinstance(node.value, ast.Name) or node.value.id not in own:
+                yield f"L5: {function.name} assigns an item in line {line}"
+        elif isinstance(node, ast.AugAssign) and isinstance(node.op, ast.Add):
+            if not isinstance(node.value, ast.Constant):
+                yield f"L5: {function.name} adds in place in line {line}"
+        elif isinstance(node, ast.Call) and isinstance(node.func, ast.Attribute) and node.func.attr in CHANGES:
+            if not isinstance(node.func.value, ast.Name) or node.func.value.id not in own:
+                yield f"L5: {function.name} changes something in line {line}"
+        elif called_name(node) in local:
+            yield f"L5: {function.name} calls what it is passed in line {line}"
+
+
 def has_cycle(imports):
     """True if modules import each other, if `imports` maps each module to those that it imports."""
     rest = dict(imports)
@@ -283,11 +390,12 @@ def faults(texts):
              if not is_property_name(name, trees.values())]
     if has_cycle({name: imported_modules(tree) for name, tree in trees.items()}):
         found.append("L16: modules import each other")
+    found.extend([fault for function in askers(trees.values()) for fault in change_faults(function)])
     for name, tree in trees.items():
         in_file = [*text_faults(texts[name]), *token_faults(texts[name]), *warning_faults(texts[name]),
                    *module_faults(tree), *import_faults(tree, defined), *name_faults(tree),
                    *attribute_faults(tree, methods + attributes), *class_faults(tree), *decorator_faults(tree),
-                   *function_faults(tree), *node_faults(tree)]
+                   *function_faults(tree), *node_faults(tree), *call_faults(tree), *iteration_faults(tree)]
         found.extend([f"{name}: {fault}" for fault in in_file])
     return found
 

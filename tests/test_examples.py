@@ -27,6 +27,52 @@ EXAMPLES = (
 >>> Program(("do", "x"), ("undo", 0))
 raises InvalidProgram(index=1)
 ''',
+    '''
+>>> from undotables.outcomes import kept_dos, outcomes, word
+>>> from undotables.programs import Program
+>>> program = Program.read("do a; undo 5; redo 4; do b")
+>>> [outcomes(program, 0, 3, 4, 10 ** 30), word(program, 3), word(program, 4), kept_dos(program, 4)]
+[((0, ('a', 'b'), 0), (3, ('a', 'b'), 0), (4, ('b',), 0), (1000000000000000000000000000000, ('b',), 0)), 'item', 'keep', (1,)]
+''',
+    '''
+>>> from undotables.effects import effect_of
+>>> from undotables.programs import Program
+>>> effect = effect_of(Program.read("do a; undo 5; redo 4; do b"))
+>>> [effect.new_names, effect.undone_count, effect.changes, effect[4], effect.word(3), effect.last]
+[('a', 'b'), 0, ((3, 1, 0),), (4, ('b',), 0), 'item', 4]
+''',
+    '''
+>>> from undotables.effects import effect_of
+>>> from undotables.programs import Program
+>>> one, two = effect_of(Program.read("do a; do b; undo 3")), effect_of(Program.read("undo all; redo 3; do x"))
+>>> three = effect_of(Program.read("1000 times (undo 2, redo 1); do a"))
+>>> [one.new_names, one.undone_count, one.changes, two.new_names, two.changes, three.changes]
+[('a', 'b'), 2, ((0, 1, 'undone'),), ('x',), ((3, None, 'old'),), ((1, 1000, 'old'),)]
+''',
+    '''
+>>> from undotables.effects import Effect, effect_of
+>>> from undotables.programs import Program
+>>> first, second = Program.read("do a; undo 5"), Program.read("do b")
+>>> [effect_of(first) + second == effect_of(first + second), Effect(("b",), 0, ((0, 4, "old"),)).table(0, 4, 5)]
+[True, '       0       0       0  b\\n       4       0       0  b\\n       5       1       0  b']
+''',
+    '''
+>>> from undotables.effects import Effect
+>>> Effect(("a", "a", "b"), 0, ((2, 1, 0), (4, 1, 1)))
+raises InvalidChanges(index=1)
+''',
+    '''
+>>> from undotables.effects import Effect
+>>> Effect(("a", "a", "b"), 0, ((2, 1, 1),))
+raises InvalidChanges(index=0)
+''',
+    '''
+>>> from undotables.building import program_for
+>>> from undotables.effects import Effect, effect_of
+>>> effect = Effect(("a", "b"), 1, ((0, 2, "old"), (2, 1, 0), (7, None, "undone")))
+>>> effect_of(program_for(effect)) == effect
+True
+''',
 )
 
 

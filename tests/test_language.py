@@ -15,12 +15,17 @@ INTERFACE = {
                "TooManyDiscarded"),
     "histories": ("History",),
     "programs": ("Program",),
+    "outcomes": ("outcome", "outcomes", "word", "kept_dos"),
+    "effects": ("Effect", "effect_of"),
+    "building": ("program_for",),
 }
 METHODS = {
     "History": ("__init__", "of", "line", "do", "undo", "redo", "__len__", "__contains__", "__eq__", "__str__",
                 "__repr__"),
     "Program": ("__init__", "read", "is_command", "names", "each", "__call__", "__add__", "__len__", "__contains__",
                 "__eq__", "__str__", "__repr__"),
+    "Effect": ("__init__", "word", "last", "table", "__getitem__", "__iter__", "__add__", "__len__", "__eq__",
+               "__repr__"),
 }
 
 BAD_FILES = {
@@ -33,11 +38,20 @@ BAD_FILES = {
     "L4": "def f(x, /):\n    return x\n",
     "L4 decorator": "class A:\n    @staticmethod\n    @f\n    def g():\n        pass\n",
     "L5": "class A:\n    def __hash__(self):\n        return 1\n",
+    "L5 generator": "def f(xs):\n    return sum(x for x in xs)\n",
+    "L5 change": "class A:\n    def __add__(self, other):\n        self.x = 1\n",
+    "L5 called change": "def f(xs):\n    xs.append(1)\n\n\n"
+                        "class A:\n    @property\n    def g(self):\n        return f(self)\n",
+    "L5 made change": "class A:\n    def __init__(self, xs):\n        xs[0] = 1\n\n"
+                      "    def __add__(self, other):\n        return A(other)\n",
+    "L5 sum": "class A:\n    def __len__(self):\n        n = 1\n        n += n\n        return len(n)\n",
     "L5 item": "class A:\n    def __getitem__(self, at):\n        return at\n",
+    "L5 reversed": "def f(xs):\n    return [x for x in reversed(xs)]\n",
     "L6": "def f():\n    global A\n",
     "L6 bare": "def f():\n    try:\n        pass\n    except:\n        pass\n",
     "L7": "def f(x):\n    return x / 2\n",
     "L7 float": "def f(x):\n    return x * 0.5\n",
+    "L7 star": "def f(g, xs):\n    return g(*g(xs))\n",
     "L8": "def f(x):\n    return map(f, x)\n",
     "L8 chr": "def f(x):\n    return chr(x)\n",
     "L10 lines": "# \n" * (MOST_LINES + 1),
@@ -60,6 +74,8 @@ BAD_FILES = {
     "L19": "def f():\n    try:\n        pass\n    except TypeError:\n        pass\n",
     "L19 raise": "def f(e):\n    raise e\n",
     "L20": "def f(x, y):\n    return x is y\n",
+    "L23": "def f(xs):\n    return enumerate(xs)\n",
+    "L24": "def f(xs):\n    return [x for x in set(xs)]\n",
     "L25": "def f(x):\n    return x.format(1)\n",
     "L26": "class A:\n    def __init__(self):\n        self.args = 1\n",
     "L27": "A = '%'\n",

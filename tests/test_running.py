@@ -5,29 +5,11 @@ import unittest
 from undotables.errors import NotAHistory
 from undotables.histories import History
 from undotables.programs import Program
+from models import one_by_one
 from values import ANY_VALUES, letters
 
 BIG = 10 ** 59
 STEPS = tuple((word, amount) for word in ("undo", "redo") for amount in (1, 2, 3, None))
-
-
-def one_by_one(commands, past, future):
-    """What is left of the two lists, with every item moved and every repeat made on its own."""
-    past, future = list(past), list(future)
-    for command in commands:
-        if command[0] == "repeat":
-            for turn in range(command[1]):
-                past, future = one_by_one(command[2], past, future)
-        elif command[0] == "do":
-            past, future = past + [command[1]], []
-        else:
-            given, taken = (past, future) if command[0] == "undo" else (future, past)
-            for move in range(len(given) if command[1] is None else min(command[1], len(given))):
-                if command[0] == "undo":
-                    taken.insert(0, given.pop())
-                else:
-                    taken.append(given.pop(0))
-    return past, future
 
 
 class RunningCase(unittest.TestCase):

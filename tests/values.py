@@ -26,3 +26,8 @@ ANY_VALUES = NO_NAMES + NO_AMOUNTS + NO_TUPLES + (("do", "a"), (("a",), ()), [("
 def letters(many):
     """So many names, not all of them different."""
     return tuple("abcdefghijklmnopqrstuvwxyz"[at % 26] for at in range(many))
+
+
+NO_LENGTHS = (None, *[value for value in NO_INTEGERS_FROM_1 if value is False or value != 0 or
+                      isinstance(value, EqualToAll)], -10 ** 130, (("do", "a"),), [[], {}], int, {"length": 1})
+LENGTHS = (0, 1, 2, 3, 10 ** 30, 10 ** 59, 10 ** 130)

@@ -89,15 +89,18 @@ def place_after_repeat(times, steps, place, size):
     return max(lowest, min(highest, first + (times - 1) * shift_of_steps(steps, size)))
 
 
+def place_after(command, place, size):
+    """The number of items in the past after a command that is no do, if `place` of `size` items were there."""
+    if command[0] == "repeat":
+        return place_after_repeat(command[1], command[2], place, size)
+    return place_after_steps((command,), place, size)
+
+
 def after_command(present, command):
     """The history after this command, if `present` is the history before it."""
     if command[0] == "do":
         return present.do(command[1])
-    if command[0] == "undo":
-        return present.undo(command[1])
-    if command[0] == "redo":
-        return present.redo(command[1])
-    place = place_after_repeat(command[1], command[2], len(present.past), len(present))
+    place = place_after(command, len(present.past), len(present))
     return History(present.line[:place], present.line[place:])
 
 
@@ -150,8 +153,7 @@ class Program:
         return present
 
     def __add__(self, other):
-        if not isinstance(other, Program):
-            raise NotAProgram(other)
+        check_program(other)
         return Program(*self.commands, *other.commands)
 
     def __len__(self):
@@ -171,3 +173,9 @@ class Program:
 
     def __repr__(self):
         return f"Program({len(self.commands)})"
+
+
+def check_program(program):
+    """Raises NotAProgram if this is not a program."""
+    if not isinstance(program, Program):
+        raise NotAProgram(program)
