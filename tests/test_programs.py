@@ -136,7 +136,7 @@ class QuestionsTest(unittest.TestCase):
     def test_sum(self):
         one, two = Program(("do", "a"), UNDO), Program(REDO_ALL, ("repeat", 2, (UNDO,)), ("do", "b"))
         both = one + two
-        self.assertIsInstance(both, Program)
+        self.assertIs(type(both), Program)
         self.assertEqual(both.commands, one.commands + two.commands)
         self.assertEqual((two + one).commands, two.commands + one.commands)
         self.assertEqual(one.commands, (("do", "a"), UNDO))
@@ -150,6 +150,11 @@ class QuestionsTest(unittest.TestCase):
             with self.assertRaises(NotAProgram) as caught:
                 Program(UNDO) + value
             self.assertIs(caught.exception.value, value)
+
+    def test_sum_of_one_command(self):
+        for one, two in ((Program(UNDO), Program()), (Program(), Program(UNDO))):
+            self.assertEqual(one + two, Program(UNDO))
+            self.assertEqual(vars(one + two), {"commands": (UNDO,)})
 
     def test_long_sum(self):
         one = Program(*[("do", name) for name in letters(60)])

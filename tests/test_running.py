@@ -21,7 +21,8 @@ class RunningCase(unittest.TestCase):
     def check_one_by_one(self, program, history):
         past, future = one_by_one(program.commands, history.past, history.future)
         result = program(history)
-        self.assertIsInstance(result, History)
+        self.assertIs(type(result), History)
+        self.assertEqual([type(result.past), type(result.future)], [tuple, tuple])
         self.assertEqual((result.past, result.future), (tuple(past), tuple(future)))
 
 

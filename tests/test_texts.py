@@ -62,7 +62,7 @@ class TextsTest(unittest.TestCase):
         for text, commands in TEXTS.items():
             with self.subTest(text=text):
                 for program in (Program.read(text), Program.read(text=text), Program(("do", "x")).read(text)):
-                    self.assertIsInstance(program, Program)
+                    self.assertIs(type(program), Program)
                     self.assertEqual(program.commands, commands)
 
     def test_every_name_can_be_read(self):
@@ -81,6 +81,13 @@ class TextsTest(unittest.TestCase):
         program = Program(*[("repeat", 10 ** 129 + at, (("undo", at + 1),)) for at in range(30)])
         self.assertEqual(Program.read(str(program)), program)
         self.assertEqual(Program.read("undo " + "9" * 3995).commands, (("undo", 10 ** 3995 - 1),))
+
+    def test_parts_that_occur_again(self):
+        text = "do a; undo 1; 2 times (undo 1, undo 1); do a; undo 1; do b; 2 times (undo 1, undo 1); do a"
+        self.assertEqual(str(Program.read(text)), text)
+        self.assertEqual(Program.read(text).names, ("a", "a", "b", "a"))
+        self.check_invalid("do a; undo 1; do a; undo 0; undo 0")
+        self.check_invalid("undo 0; do a; undo 0")
 
     def check_invalid(self, text):
         with self.subTest(text=text), self.assertRaises(InvalidText) as caught:

@@ -13,14 +13,14 @@ def is_integer(value, least):
 
 def is_name(value):
     """True for a string of one to eight letters from a to z."""
-    if not isinstance(value, str) or not 1 <= len(value) <= LONGEST_NAME:
+    if not isinstance(value, str) or len(value) > LONGEST_NAME:
         return False
-    return all(["a" <= letter <= "z" for letter in value])
+    return value.isascii() and value.isalpha() and value.islower()
 
 
 def is_amount(value):
     """True for an integer from 1 on, and for None, which stands for all."""
-    return value is None or is_integer(value, 1)
+    return value is None or isinstance(value, int) and not isinstance(value, bool) and value >= 1
 
 
 def check_name(name):
@@ -33,8 +33,10 @@ def check_names(names):
     """Raises InvalidNames if this is not a tuple of names."""
     if not isinstance(names, tuple):
         raise InvalidNames(None)
+    # Written out instead of a call of is_name for each, which would take twice as long for a long history.
     for at, value in enumerate(names):
-        if not is_name(value):
+        if (not isinstance(value, str) or len(value) > LONGEST_NAME
+                or not (value.isascii() and value.isalpha() and value.islower())):
             raise InvalidNames(at)
 
 
@@ -47,6 +49,15 @@ def check_amount(amount):
 def number_moved(wanted, available):
     """How many of the available items an undo or a redo of the amount `wanted` moves."""
     return available if wanted is None else min(wanted, available)
+
+
+def history_with(past, future):
+    """The history with this past and this future, both known to be tuples of names."""
+    # All items of a long history would be looked at once more for each command, were they passed to History.
+    made = History()
+    made.past = past
+    made.future = future
+    return made
 
 
 class History:
@@ -71,19 +82,19 @@ class History:
     def do(self, name):
         """The history after the item was done; the future is discarded."""
         check_name(name)
-        return History(self.past + (name,))
+        return history_with(self.past + (name,), ())
 
     def undo(self, amount=1):
         """The history after so many items of the past were undone."""
         check_amount(amount)
         kept = len(self.past) - number_moved(amount, len(self.past))
-        return History(self.past[:kept], self.past[kept:] + self.future)
+        return history_with(self.past[:kept], self.past[kept:] + self.future)
 
     def redo(self, amount=1):
         """The history after so many items of the future were redone."""
         check_amount(amount)
         moved = number_moved(amount, len(self.future))
-        return History(self.past + self.future[:moved], self.future[moved:])
+        return history_with(self.past + self.future[:moved], self.future[moved:])
 
     def __len__(self):
         return len(self.past + self.future)

@@ -1,31 +1,27 @@
 """Programs: commands that are carried out one after another, and their texts."""
 
 from undotables.errors import InvalidProgram, InvalidText, NotAProgram
-from undotables.histories import History, check_history, is_amount, is_integer, is_name, number_moved
+from undotables.histories import check_history, history_with, is_amount, is_integer, is_name, number_moved
 
 BEFORE_STEPS = "times ("
 AFTER_STEPS = ")"
 
 
-def is_form(value, word, size):
-    """True for a tuple of this size that begins with this word."""
-    if not isinstance(value, tuple) or len(value) != size:
-        return False
-    # Only a string is compared, because other values may have an equality of their own.
-    return isinstance(value[0], str) and value[0] == word
-
-
 def is_step(value):
     """True for an undo or a redo command."""
-    return (is_form(value, "undo", 2) or is_form(value, "redo", 2)) and is_amount(value[1])
+    if not isinstance(value, tuple) or len(value) != 2 or not isinstance(value[0], str):
+        return False
+    return (value[0] == "undo" or value[0] == "redo") and is_amount(value[1])
 
 
 def is_repeat(value):
     """True for a repeat command."""
-    if not is_form(value, "repeat", 3) or not is_integer(value[1], 1):
+    if not isinstance(value, tuple) or len(value) != 3 or not isinstance(value[0], str):
         return False
-    steps = value[2]
-    return isinstance(steps, tuple) and len(steps) > 0 and all([is_step(step) for step in steps])
+    word, times, steps = value
+    if word != "repeat" or not is_integer(times, 1) or not isinstance(steps, tuple):
+        return False
+    return len(steps) > 0 and all([is_step(step) for step in steps])
 
 
 def command_text(command):
@@ -44,46 +40,63 @@ def number_in(text):
     return 0
 
 
-def step_in(text):
-    """The undo or redo command with this text; otherwise a tuple that is no such command."""
-    word, space, rest = text.partition(" ")
-    amount = None if rest == "all" else number_in(rest)
-    return (word, amount)
+def step_in(word, amount):
+    """The undo or redo command with this word and this text of its amount, or None if there is none."""
+    if word != "undo" and word != "redo":
+        return None
+    if amount == "all":
+        return (word, None)
+    number = number_in(amount)
+    return (word, number) if number > 0 else None
+
+
+def repeat_in(times, rest):
+    """The repeat command with this text of its times and this rest of its text, or None if there is none."""
+    number = number_in(times)
+    if number == 0 or not rest.startswith(BEFORE_STEPS) or not rest.endswith(AFTER_STEPS):
+        return None
+    steps = []
+    for text in rest[len(BEFORE_STEPS):-len(AFTER_STEPS)].split(", "):
+        word, space, amount = text.partition(" ")
+        step = step_in(word, amount)
+        if step is None:
+            return None
+        steps.append(step)
+    return ("repeat", number, tuple(steps))
 
 
 def command_in(text):
-    """The command with this text; otherwise a tuple that is no command."""
+    """The command with this text, or None if there is none."""
     word, space, rest = text.partition(" ")
     if word == "do":
-        return ("do", rest)
-    if rest.startswith(BEFORE_STEPS) and rest.endswith(AFTER_STEPS):
-        steps = rest[len(BEFORE_STEPS):-len(AFTER_STEPS)].split(", ")
-        return ("repeat", number_in(word), tuple([step_in(step) for step in steps]))
-    return step_in(text)
+        return ("do", rest) if is_name(rest) else None
+    return step_in(word, rest) or repeat_in(word, rest)
 
 
 def place_after_steps(steps, place, size):
     """The number of items in the past after these commands, if `place` of `size` items were there."""
-    for word, wanted in steps:
+    for word, amount in steps:
         if word == "undo":
-            place -= number_moved(wanted, place)
+            place = 0 if amount is None or amount > place else place - amount
         else:
-            place += number_moved(wanted, size - place)
+            place = size if amount is None or amount > size - place else place + amount
     return place
 
 
 def shift_of_steps(steps, size):
     """By how much these commands move a place that never comes to an end of the line."""
-    back = sum([number_moved(wanted, size) for word, wanted in steps if word == "undo"])
-    ahead = sum([number_moved(wanted, size) for word, wanted in steps if word == "redo"])
+    back = sum([number_moved(amount, size) for word, amount in steps if word == "undo"])
+    ahead = sum([number_moved(amount, size) for word, amount in steps if word == "redo"])
     return ahead - back
 
 
 def place_after_repeat(times, steps, place, size):
     """The number of items in the past after these commands were carried out so many times."""
+    first = place_after_steps(steps, place, size)
+    if times == 1 or first == place:
+        return first
     # One round moves each place by the same shift, but not beyond what becomes of the two ends.
     # After the first round the place is between these, and the shifts of the others add up.
-    first = place_after_steps(steps, place, size)
     lowest = place_after_steps(steps, 0, size)
     highest = place_after_steps(steps, size, size)
     return max(lowest, min(highest, first + (times - 1) * shift_of_steps(steps, size)))
@@ -96,18 +109,20 @@ def place_after(command, place, size):
     return place_after_steps((command,), place, size)
 
 
-def after_command(present, command):
-    """The history after this command, if `present` is the history before it."""
-    if command[0] == "do":
-        return present.do(command[1])
-    place = place_after(command, len(present.past), len(present))
-    return History(present.line[:place], present.line[place:])
+class Checked:
+    """Commands that are known to be ones; a program of them need not look at each of them again."""
+
+    def __init__(self, commands):
+        self.commands = commands
 
 
 class Program:
     """Commands that are carried out one after another; it never changes."""
 
     def __init__(self, *commands):
+        if len(commands) == 1 and isinstance(commands[0], Checked):
+            self.commands = commands[0].commands
+            return
         for at, command in enumerate(commands):
             if not Program.is_command(command):
                 raise InvalidProgram(at)
@@ -120,17 +135,25 @@ class Program:
             raise InvalidText(text)
         if text == "nothing":
             return cls()
-        commands = [command_in(part) for part in text.split("; ")]
-        if not all([Program.is_command(command) for command in commands]):
-            raise InvalidText(text)
-        return cls(*commands)
+        # Commands often occur again in a program; each is read once.
+        known = {}
+        commands = []
+        for part in text.split("; "):
+            if part not in known:
+                known[part] = command_in(part)
+                if known[part] is None:
+                    raise InvalidText(text)
+            commands.append(known[part])
+        return cls(Checked(tuple(commands)))
 
     @staticmethod
     def is_command(value):
         """True for a do, an undo, a redo or a repeat command."""
-        if is_form(value, "do", 2):
+        if not isinstance(value, tuple) or len(value) != 2:
+            return is_repeat(value)
+        if isinstance(value[0], str) and value[0] == "do":
             return is_name(value[1])
-        return is_step(value) or is_repeat(value)
+        return is_step(value)
 
     @property
     def names(self):
@@ -140,21 +163,31 @@ class Program:
     def each(self, history):
         """Yields the history after each command, a repeat being one."""
         check_history(history)
-        present = history
+        line = history.past + history.future
+        place = len(history.past)
         for command in self.commands:
-            present = after_command(present, command)
-            yield present
+            if command[0] == "do":
+                line = line[:place] + (command[1],)
+                place += 1
+            else:
+                place = place_after(command, place, len(line))
+            yield history_with(line[:place], line[place:])
 
     def __call__(self, history):
         check_history(history)
-        present = history
+        line = [*history.past, *history.future]
+        place = len(history.past)
         for command in self.commands:
-            present = after_command(present, command)
-        return present
+            if command[0] == "do":
+                line[place:] = [command[1]]
+                place += 1
+            else:
+                place = place_after(command, place, len(line))
+        return history_with(tuple(line[:place]), tuple(line[place:]))
 
     def __add__(self, other):
         check_program(other)
-        return Program(*self.commands, *other.commands)
+        return Program(Checked(self.commands + other.commands))
 
     def __len__(self):
         return len(self.commands)
