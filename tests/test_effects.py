@@ -2,7 +2,7 @@ import random
 import unittest
 
 from undotables.effects import Effect, effect_of
-from undotables.errors import InvalidChanges, InvalidCount, InvalidLength, InvalidNames
+from undotables.errors import InvalidChanges, InvalidCount, InvalidLength, InvalidNames, NotAProgram
 from undotables.histories import History
 from undotables.outcomes import outcome
 from undotables.programs import Program
@@ -326,6 +326,12 @@ class SumTest(EffectCase):
         self.check_parts(EFFECT + Program.read("do c"), ("a", "a", "c"), 0,
                          ((0, 2, "old"), (2, 1, 0), (3, 1, 0), (7, None, "old")))
         self.check_parts(EFFECT, AAB, 1, CHANGES)
+
+    def test_sum_with_another_value(self):
+        for value in (None, 1, "do a", (("do", "a"),), EFFECT, History()):
+            with self.assertRaises(NotAProgram) as caught:
+                EFFECT + value
+            self.assertIs(caught.exception.value, value)
 
     def test_sum_is_the_effect_of_both(self):
         draw = random.Random(8)

@@ -35,8 +35,8 @@ def losses_of(effect):
 
 def growing_up_to(effect, length, losses):
     """How many lengths up to this one have a shorter line than the next, if only these losses are made so far."""
-    # The words "old" ahead of a loss always end.
-    olds = [min(times, length - start) for start, times, what in effect.changes if what == "old" and start < length]
+    # A run of "old" that begins before a loss also ends before it.
+    olds = [times for start, times, what in effect.changes if what == "old" and start < length]
     return length + 1 - sum(olds) - len([loss for loss in losses if loss is not None and loss < length])
 
 

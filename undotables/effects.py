@@ -90,8 +90,6 @@ class Effect:
 
     def table(self, *lengths):
         """A text with a line for each of these lengths."""
-        for length in lengths:
-            check_length(length)
         lines = []
         for length in lengths:
             kept, items, undone = self[length]
