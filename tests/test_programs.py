@@ -1,5 +1,8 @@
+import importlib
+import pathlib
 import unittest
 
+import undotables
 from undotables.errors import InvalidProgram, NotAProgram
 from undotables.histories import History
 from undotables.programs import Program
@@ -39,6 +42,22 @@ NO_COMMANDS = (
 )
 
 
+CONTENTS = ((), ("x",), ("x", 1), UNDO, (UNDO,), ("do", "a"), (("do", "a"), UNDO))
+
+
+def objects_of_the_package():
+    """Objects of all classes of the package, with each of the contents that they can be created of."""
+    for path in sorted(pathlib.Path(undotables.__file__).parent.glob("*.py")):
+        module = importlib.import_module("undotables." + path.stem) if path.stem != "__init__" else undotables
+        for kind in [value for value in vars(module).values() if isinstance(value, type)]:
+            for content in CONTENTS:
+                for arguments in ((content,), content, (Program(UNDO),), (Program(UNDO), Program(UNDO))):
+                    try:
+                        yield kind(*arguments)
+                    except (TypeError, ValueError):
+                        pass
+
+
 class CommandsTest(unittest.TestCase):
     def test_commands(self):
         for value in COMMANDS:
@@ -68,8 +87,26 @@ class CommandsTest(unittest.TestCase):
         self.check_index(0, (UNDO, REDO_ALL))
         self.check_index(59, *COMMANDS[:1] * 59, ["undo", 1])
 
+    def test_an_object_of_any_class_is_no_command(self):
+        kinds = set()
+        for value in objects_of_the_package():
+            kinds.add(type(value).__name__)
+            with self.subTest(value=value):
+                self.assertIs(Program.is_command(value), False)
+                self.check_index(0, value)
+                self.check_index(0, value, UNDO)
+                self.check_index(1, UNDO, value)
+                self.check_index(2, UNDO, UNDO, (UNDO, value), value)
+        self.assertTrue(kinds > {"History", "Program", "Effect", "InvalidProgram"})
+
     def test_arguments_are_passed_by_position_only(self):
         self.assertRaises(TypeError, Program, commands=(UNDO,))
+
+    def test_only_commands_come_into_a_program(self):
+        for value in (*CONTENTS, *COMMANDS, History(), None, "do a"):
+            with self.assertRaises(NotAProgram) as caught:
+                Program(UNDO, joined=(Program(UNDO), value))
+            self.assertIs(caught.exception.value, value)
 
 
 class QuestionsTest(unittest.TestCase):

@@ -109,24 +109,18 @@ def place_after(command, place, size):
     return place_after_steps((command,), place, size)
 
 
-class Checked:
-    """Commands that are known to be ones; a program of them need not look at each of them again."""
-
-    def __init__(self, commands):
-        self.commands = commands
-
-
 class Program:
     """Commands that are carried out one after another; it never changes."""
 
-    def __init__(self, *commands):
-        if len(commands) == 1 and isinstance(commands[0], Checked):
-            self.commands = commands[0].commands
-            return
+    def __init__(self, *commands, joined=()):
         for at, command in enumerate(commands):
             if not Program.is_command(command):
                 raise InvalidProgram(at)
         self.commands = commands
+        # Those of programs are known to be commands, so a sum need not look at each of them again.
+        for program in joined:
+            check_program(program)
+            self.commands = self.commands + program.commands
 
     @classmethod
     def read(cls, text):
@@ -144,7 +138,10 @@ class Program:
                 if known[part] is None:
                     raise InvalidText(text)
             commands.append(known[part])
-        return cls(Checked(tuple(commands)))
+        # They are known to be commands, so they are not passed to be looked at again.
+        made = cls()
+        made.commands = tuple(commands)
+        return made
 
     @staticmethod
     def is_command(value):
@@ -186,8 +183,7 @@ class Program:
         return history_with(tuple(line[:place]), tuple(line[place:]))
 
     def __add__(self, other):
-        check_program(other)
-        return Program(Checked(self.commands + other.commands))
+        return Program(joined=(self, other))
 
     def __len__(self):
         return len(self.commands)
