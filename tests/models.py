@@ -146,3 +146,45 @@ def drawn_effect(random, items, changes, most):
         made.append((start, times, what))
         free = start + (times or 0)
     return Effect(names, random.randint(0, items), tuple(made))
+
+
+def cut_in_two(random, command):
+    """Commands that do the same as this one."""
+    word, what = command[0], command[1]
+    if word == "repeat" and what > 1:
+        first = random.randint(1, what - 1)
+        return [("repeat", first, command[2]), ("repeat", what - first, command[2])]
+    if word == "repeat":
+        return list(command[2])
+    if word != "do" and what is not None and what > 1:
+        first = random.randint(1, what - 1)
+        return [(word, first), (word, what - first)]
+    if word != "do" and what is None:
+        return [(word, random.randint(1, 5)), (word, None)]
+    return [("do", "b"), ("undo", 1), command] if word == "do" else [("repeat", 1, (command,))]
+
+
+def changed(random, command, other):
+    """The command with another amount or number of turns, or this other one."""
+    if command[0] != "do" and command[1] is not None and random.random() < 0.7:
+        return (command[0], max(1, command[1] + random.choice((-2, -1, 1, 2))), *command[2:])
+    return other
+
+
+def made_of(random, program, other):
+    """A program that differs a little from this one, or not in what it leaves; now and then the other one."""
+    commands = list(program.commands)
+    at = random.randint(0, len(commands))
+    way = random.choice(("change", "change", "leave out", "put in", "cut", "exchange", "discarded", "other"))
+    some = random.choice(other.commands) if other.commands else ("do", "b")
+    if way == "put in":
+        commands[at:at] = [some]
+    elif way == "discarded":
+        commands[at:at] = [("do", "b"), ("undo", 1), ("do", "a")]
+    elif way == "other":
+        return other
+    elif at < len(commands):
+        new = {"change": [changed(random, commands[at], some)], "leave out": [],
+               "cut": cut_in_two(random, commands[at]), "exchange": commands[at:at + 2][::-1]}[way]
+        commands[at:at + (2 if way == "exchange" else 1)] = new
+    return Program(*commands)

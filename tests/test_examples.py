@@ -73,6 +73,29 @@ raises InvalidChanges(index=0)
 >>> effect_of(program_for(effect)) == effect
 True
 ''',
+    '''
+>>> from undotables.comparing import alike, difference, same
+>>> from undotables.programs import Program
+>>> one, two = Program.read("undo 1; do x"), Program.read("undo 2; do x")
+>>> [same(one, Program.read("do y; undo 2; do x")), difference(one, two), alike(one, one, two), alike()]
+[True, 2, False, True]
+''',
+    '''
+>>> from undotables.bounds import bounds, trimmed
+>>> from undotables.comparing import same
+>>> from undotables.programs import Program
+>>> program = Program.read("do a; undo 5; redo 4; do b; undo 1; do c")
+>>> less = trimmed(program)
+>>> [bounds(program), less.names, same(program, less), bounds(Program.read("do a; do a; undo 3; redo 2; do b"))]
+[(4, 0, None), ('a', 'c'), True, (None, 1, None)]
+''',
+    '''
+>>> from undotables.observing import conflict, program_with
+>>> from undotables.outcomes import outcomes
+>>> program = program_with((0, 0, ("a", "b"), 0), (5, 3, ("b",), 1))
+>>> [outcomes(program, 0, 5), conflict((0, 0, ("a", "b"), 0), (1, 1, ("a",), 0)), program_with((3, 2, (), 0))]
+[((0, ('a', 'b'), 0), (3, ('b',), 1)), (0, 1), None]
+''',
 )
 
 

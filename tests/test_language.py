@@ -18,6 +18,9 @@ INTERFACE = {
     "outcomes": ("outcome", "outcomes", "word", "kept_dos"),
     "effects": ("Effect", "effect_of"),
     "building": ("program_for",),
+    "comparing": ("same", "difference", "alike"),
+    "bounds": ("bounds", "trimmed"),
+    "observing": ("program_with", "conflict"),
 }
 METHODS = {
     "History": ("__init__", "of", "line", "do", "undo", "redo", "__len__", "__contains__", "__eq__", "__str__",

@@ -4,7 +4,7 @@ from undotables.errors import InvalidChanges, InvalidCount, NotAnEffect
 from undotables.histories import check_names, is_integer
 from undotables.outcomes import check_length
 from undotables.programs import check_program
-from undotables.words import changes_of, first_alike, runs_of, state_after
+from undotables.words import first_alike, parts_after
 
 
 def check_undone_count(count, names):
@@ -119,7 +119,8 @@ class Effect:
 
     def __add__(self, other):
         check_program(other)
-        return effect_after(self.new_names, self.undone_count, runs_of(self.changes), other.commands)
+        names, undone, changes = parts_after(self.new_names, self.undone_count, self.changes, other.commands)
+        return Effect(names, undone, changes)
 
     def __len__(self):
         return len(self.changes)
@@ -132,16 +133,11 @@ class Effect:
         return f"Effect({len(self.new_names)} names, {self.undone_count} undone, {len(self.changes)} changes)"
 
 
-def effect_after(names, undone, runs, commands):
-    """The effect of these commands, carried out after what left these new names, undone ones and runs."""
-    names, undone, runs = state_after((names, undone, runs), commands)
-    return Effect(names, undone, changes_of(names, runs))
-
-
 def effect_of(program):
     """The effect of a program."""
     check_program(program)
-    return effect_after((), 0, runs_of(()), program.commands)
+    names, undone, changes = parts_after((), 0, (), program.commands)
+    return Effect(names, undone, changes)
 
 
 def check_effect(effect):

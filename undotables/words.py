@@ -169,3 +169,9 @@ def state_after(state, commands):
         if what is None or what > moved:
             runs = turned(runs, None if what is None else what - moved, before, after)
     return names, undone, runs
+
+
+def parts_after(names, undone, changes, commands):
+    """The parts of an effect after these commands, if these are its parts before them."""
+    names, undone, runs = state_after((names, undone, runs_of(changes)), commands)
+    return names, undone, changes_of(names, runs)
