@@ -286,6 +286,54 @@ def call_faults(tree):
             yield f"L7: what stands behind a star in line {node.lineno}"
 
 
+def is_simple(node):
+    """True for what may be assigned in a `finally`."""
+    if isinstance(node, ast.Attribute):
+        return is_simple(node.value)
+    if isinstance(node, (ast.List, ast.Tuple)):
+        return all(is_simple(part) for part in node.elts)
+    return isinstance(node, (ast.Name, ast.Constant))
+
+
+def finally_faults(tree):
+    """What is wrong with the blocks behind `finally`; tests and sums in them are told too, though some are allowed."""
+    for node in ast.walk(tree):
+        for part in node.finalbody if isinstance(node, ast.Try) else []:
+            if not isinstance(part, ast.Pass) and not (
+                    isinstance(part, ast.Assign) and len(part.targets) == 1 and is_simple(part.value)
+                    and is_simple(part.targets[0])):
+                yield f"L6: line {part.lineno} behind finally"
+
+
+def super_faults(tree):
+    """What is wrong with `super()`, and with calls of what a call gave."""
+    told = [node.func.value for node in ast.walk(tree) if isinstance(node, ast.Call)
+            and isinstance(node.func, ast.Attribute)
+            and (node.func.attr == "__init__" or not node.func.attr.startswith("__"))]
+    for node in ast.walk(tree):
+        if called_name(node) == "super" and (node not in told or node.args or node.keywords):
+            yield f"L5: super in line {node.lineno}"
+        elif isinstance(node, ast.Call) and isinstance(node.func, ast.Call):
+            yield f"L5: a call of what a call gave in line {node.lineno}"
+
+
+def class_value_faults(tree):
+    """What is wrong with the statements in classes that are no methods."""
+    for kind in ast.walk(tree):
+        for part in kind.body if isinstance(kind, ast.ClassDef) else []:
+            if isinstance(part, ast.Assign):
+                if len(part.targets) != 1 or not isinstance(part.targets[0], ast.Name) or not is_plain(part.value):
+                    yield f"L5: the class value of line {part.lineno}"
+            elif not isinstance(part, ast.FunctionDef) and not is_docstring(part):
+                yield f"L5: line {part.lineno} in a class"
+
+
+def is_plain(node):
+    if isinstance(node, ast.Tuple):
+        return all(is_plain(part) for part in node.elts)
+    return isinstance(node, ast.Constant)
+
+
 def iteration_faults(tree):
     """What is wrong with what is iterated over, and with what only may be iterated over at once."""
     heads = []
@@ -395,7 +443,8 @@ def faults(texts):
         in_file = [*text_faults(texts[name]), *token_faults(texts[name]), *warning_faults(texts[name]),
                    *module_faults(tree), *import_faults(tree, defined), *name_faults(tree),
                    *attribute_faults(tree, methods + attributes), *class_faults(tree), *decorator_faults(tree),
-                   *function_faults(tree), *node_faults(tree), *call_faults(tree), *iteration_faults(tree)]
+                   *function_faults(tree), *node_faults(tree), *call_faults(tree), *iteration_faults(tree),
+                   *finally_faults(tree), *super_faults(tree), *class_value_faults(tree)]
         found.extend([f"{name}: {fault}" for fault in in_file])
     return found
 

@@ -188,3 +188,34 @@ def made_of(random, program, other):
                "cut": cut_in_two(random, commands[at]), "exchange": commands[at:at + 2][::-1]}[way]
         commands[at:at + (2 if way == "exchange" else 1)] = new
     return Program(*commands)
+
+
+def effect_by_outcomes(program):
+    """The three parts of the effect, read off the outcomes for all lengths up to the reach and two more."""
+    told = [left_one_by_one(program, length)[0] for length in range(reach(program) + 3)]
+    words = []
+    for (kept, items, undone), (next_kept, next_items, next_undone) in zip(told, told[1:]):
+        if len(next_items) < len(items):
+            words.append([at for at in range(len(items)) if items[:at] + items[at + 1:] == next_items][0])
+        else:
+            words.append("old" if next_kept == kept else "undone" if next_undone > undone else "keep")
+    changes = []
+    for length, what in enumerate(words):
+        if isinstance(what, int):
+            changes.append((length, 1, what))
+        elif what != "keep" and length > 0 and words[length - 1] == what:
+            changes[-1] = (changes[-1][0], changes[-1][1] + 1, what)
+        elif what != "keep":
+            changes.append((length, 1, what))
+    if words[-1] != "keep":
+        changes[-1] = (changes[-1][0], None, words[-1])
+    return told[0][1], told[0][2], tuple(changes)
+
+
+def bounds_one_by_one(program):
+    """The bounds, from going through all lengths up to the reach and one more."""
+    found = [None] * len(program.names)
+    for length in range(reach(program) + 1, -1, -1):
+        kept = left_one_by_one(program, length)[1]
+        found = [bound if at in kept else length for at, bound in enumerate(found)]
+    return tuple(found)

@@ -9,7 +9,8 @@ from undotables.errors import NotAProgram
 from undotables.histories import History
 from undotables.outcomes import kept_dos, outcome
 from undotables.programs import Program
-from models import BIG, drawn_effect, drawn_program, left_by_doubling, left_one_by_one, reach, small_programs
+from models import (BIG, bounds_one_by_one, drawn_effect, drawn_program, left_by_doubling, left_one_by_one, reach,
+                    small_programs)
 from values import ANY_VALUES, letters
 
 NO_PROGRAMS = ANY_VALUES + (History(), Effect(), Program, "do a", "nothing", (("do", "a"),), [Program()], (Program(),))
@@ -38,15 +39,6 @@ ORDINARY = (
     (f"do a; undo all; redo {BIG}; do b", (BIG, None)),
     (f"do a; undo {BIG * BIG}; {BIG} times (undo 1, redo 2); do b", (BIG + 1, None)),
 )
-
-
-def bounds_one_by_one(program):
-    """The bounds, from going through all lengths up to the reach and one more."""
-    found = [None] * len(program.names)
-    for length in range(reach(program) + 1, -1, -1):
-        kept = left_one_by_one(program, length)[1]
-        found = [bound if at in kept else length for at, bound in enumerate(found)]
-    return tuple(found)
 
 
 def least(bound):

@@ -8,8 +8,8 @@ from undotables.histories import History
 from undotables.outcomes import outcome, outcomes
 from undotables.programs import Program
 from undotables.words import steps_of_repeat
-from models import (BIG, clamped, drawn_program, left_by_doubling, left_one_by_one, map_of, one_by_one, reach,
-                    small_programs)
+from models import (BIG, clamped, drawn_program, effect_by_outcomes, left_by_doubling, left_one_by_one, map_of,
+                    one_by_one, reach, small_programs)
 from values import ANY_VALUES, LENGTHS, letters
 
 
@@ -101,6 +101,7 @@ class ComparedTest(EffectOfCase):
     def test_small_programs(self):
         for program in small_programs(3):
             self.check_outcomes(program, range(reach(program) + 3), left_one_by_one)
+            self.assertEqual(parts(effect_of(program)), effect_by_outcomes(program))
 
     def test_drawn_programs(self):
         draw = random.Random(10)

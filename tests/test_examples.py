@@ -96,6 +96,47 @@ True
 >>> [outcomes(program, 0, 5), conflict((0, 0, ("a", "b"), 0), (1, 1, ("a",), 0)), program_with((3, 2, (), 0))]
 [((0, ('a', 'b'), 0), (3, ('b',), 1)), (0, 1), None]
 ''',
+    '''
+>>> from undotables.editors import CountingGuardedEditor
+>>> editor = CountingGuardedEditor("a", "b")
+>>> editor.change_limit(1)
+>>> counts = [editor.undo(), editor.do("c"), editor.undo(None), editor.redo()]
+>>> [counts, editor.describe(), editor.log, editor.changed, editor.can_revert]
+[[1, 1, 2, 1], 'counting guarded editor a | c, 1 discarded', (('undo', 1), ('do', 'c'), ('undo', None), ('redo', 1)), True, False]
+''',
+    '''
+>>> from undotables.editors import GuardedEditor
+>>> editor = GuardedEditor("a", "b", "c")
+>>> editor.change_limit(1)
+>>> editor.perform((("undo", 2), ("do", "d")))
+raises TooManyDiscarded(count=2)
+''',
+    '''
+>>> from undotables.editors import Editor
+>>> editor = Editor("a", "b", "c")
+>>> editor.perform((("undo", 2), ("redo", 1)))
+>>> [str(editor.history), editor.changed, editor.revert(), editor.changed, editor.revert(), len(editor)]
+['a b | c', True, ('redo', 1), False, None, 3]
+''',
+    '''
+>>> from undotables.certificates import certify_comparison, certify_observations
+>>> from undotables.checker import accepts
+>>> from undotables.programs import Program
+>>> claim, certificate = certify_comparison(Program.read("undo 1; do x"), Program.read("do y; undo 2; do x"))
+>>> [claim[0], certificate, accepts(claim, certificate), certify_observations((3, 2, (), 0))]
+['same', (('x',), 0, ((0, 1, 'old'),)), True, (('impossible', ((3, 2, (), 0),)), (0,))]
+''',
+    '''
+>>> from undotables.console import Console
+>>> console = Console("a", "b")
+>>> [console.run("perform undo 1; do c"), console.run("changed"), console.run("outcome 7 do a; undo 5; do b"), console.run("bounds do a; undo 5; do b")]
+['a c |', 'yes', '3 0 b', '0 always']
+''',
+    '''
+>>> from undotables.console import Console
+>>> Console("a").run("undo 01")
+raises InvalidLine(text='undo 01')
+''',
 )
 
 

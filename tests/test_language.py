@@ -21,6 +21,10 @@ INTERFACE = {
     "comparing": ("same", "difference", "alike"),
     "bounds": ("bounds", "trimmed"),
     "observing": ("program_with", "conflict"),
+    "editors": ("Editor", "CountingEditor", "GuardedEditor", "CountingGuardedEditor"),
+    "checker": ("accepts",),
+    "certificates": ("certify_effect", "certify_comparison", "certify_bounds", "certify_observations"),
+    "console": ("Console",),
 }
 METHODS = {
     "History": ("__init__", "of", "line", "do", "undo", "redo", "__len__", "__contains__", "__eq__", "__str__",
@@ -29,6 +33,11 @@ METHODS = {
                 "__eq__", "__str__", "__repr__"),
     "Effect": ("__init__", "word", "last", "table", "__getitem__", "__iter__", "__add__", "__len__", "__eq__",
                "__repr__"),
+    "Editor": ("__init__", "history", "log", "changed", "can_revert", "do", "undo", "redo", "perform", "save", "revert",
+               "describe", "__len__", "__eq__"),
+    "CountingEditor": ("discarded", "describe"),
+    "GuardedEditor": ("limit", "change_limit"),
+    "Console": ("__init__", "run"),
 }
 
 BAD_FILES = {
@@ -50,7 +59,13 @@ BAD_FILES = {
     "L5 sum": "class A:\n    def __len__(self):\n        n = 1\n        n += n\n        return len(n)\n",
     "L5 item": "class A:\n    def __getitem__(self, at):\n        return at\n",
     "L5 reversed": "def f(xs):\n    return [x for x in reversed(xs)]\n",
+    "L5 super": "class A:\n    def f(self):\n        return super().KIND\n",
+    "L5 called call": "def f(x):\n    return x(1)(2)\n",
+    "L5 class value": "class A:\n    KIND = [1]\n",
+    "L5 class row": "class A:\n    if 1:\n        KIND = 1\n",
     "L6": "def f():\n    global A\n",
+    "L6 finally": "def f(x):\n    try:\n        x()\n    finally:\n        x()\n",
+    "L6 finally test": "def f(x):\n    try:\n        x()\n    finally:\n        if x:\n            x = 1\n",
     "L6 bare": "def f():\n    try:\n        pass\n    except:\n        pass\n",
     "L7": "def f(x):\n    return x / 2\n",
     "L7 float": "def f(x):\n    return x * 0.5\n",
