@@ -2,6 +2,9 @@
 import sys
 import unittest
 
+from undotables.bounds import bounds
+from undotables.building import program_for
+from undotables.effects import Effect, effect_of
 from undotables.histories import History
 from undotables.programs import Program
 from values import letters
@@ -9,6 +12,14 @@ from values import letters
 DOS = "; ".join(["do abcdefgh", "undo 1"] * 30)
 REPEATS = "; ".join(["100 times (undo 2, redo 1)"] * 30)
 MIXED = "; ".join(["do ab", "undo 3", "redo all", "3 times (undo 2, redo 1)"] * 5)
+
+SIXTY = tuple(name + more for name in letters(6) for more in letters(10))
+LONG_EFFECTS = (
+    Effect(SIXTY, 0, tuple((2 * at, 1, 0) for at in range(59))),
+    Effect(SIXTY, 0, tuple((2 * at, 1, 58 - at) for at in range(59))),
+    Effect(("a",), 0, tuple((3 * at, 1, "old" if at % 2 else "undone") for at in range(60))),
+    Effect(SIXTY, 60, tuple((3 * at, 1, 0) if at % 2 else (3 * at, 2, "undone") for at in range(60))),
+)
 
 
 def calls_of(work):
@@ -55,6 +66,22 @@ class WorkTest(unittest.TestCase):
         self.check_calls(20, lambda: program + program)
         self.check_calls(200, lambda: Program.read(DOS))
         self.check_calls(200, lambda: Program.read(REPEATS))
+
+    def test_effects_of_long_programs(self):
+        for effect in LONG_EFFECTS:
+            program = program_for(effect)
+            self.assertEqual(effect_of(program), effect)
+            self.check_calls(700, lambda: program_for(effect))
+            self.check_calls(1500, lambda: effect_of(program))
+            self.check_calls(2000, lambda: bounds(program))
+
+    def test_effects_of_short_programs(self):
+        effect = Effect(SIXTY[:12], 3, ((0, 2, "old"), (3, 1, 2), (5, 1, 0), (8, 4, "undone"), (12, 1, 1), (14, 2, "old"),
+                                        (17, 1, 0), (20, None, "undone")))
+        program = program_for(effect)
+        self.assertEqual(effect_of(program), effect)
+        self.check_calls(120, lambda: program_for(effect))
+        self.check_calls(300, lambda: effect_of(program))
 
 
 if __name__ == "__main__":

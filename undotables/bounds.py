@@ -3,7 +3,7 @@
 from undotables.building import program_for
 from undotables.effects import effect_of
 from undotables.programs import check_program
-from undotables.words import parts_after
+from undotables.words import parts_of
 
 
 def numbered(commands):
@@ -24,7 +24,7 @@ def bounds(program):
     check_program(program)
     # What is not kept for the length 0 is never kept.
     found = [0] * len(program.names)
-    names, undone, changes = parts_after((), 0, (), numbered(program.commands))
+    names, undone, changes = parts_of(numbered(program.commands))
     kept = list(names)
     for do in kept:
         found[do] = None

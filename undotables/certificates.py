@@ -6,14 +6,14 @@ from undotables.effects import effect_of
 from undotables.observing import conflict, program_with
 
 
-def parts_of(effect):
-    """The three parts of an effect."""
+def parts_told(effect):
+    """The three parts of an effect, as a claim or a certificate tells them."""
     return (effect.new_names, effect.undone_count, effect.changes)
 
 
 def certify_effect(program):
     """The claim which effect the program has, and its certificate."""
-    parts = parts_of(effect_of(program))
+    parts = parts_told(effect_of(program))
     return ("effect", program.commands, *parts), None
 
 
@@ -21,7 +21,7 @@ def certify_comparison(program, other):
     """The claim whether the programs have the same outcomes for all lengths, and its certificate."""
     length = difference(program, other)
     if length is None:
-        return ("same", program.commands, other.commands), parts_of(effect_of(program))
+        return ("same", program.commands, other.commands), parts_told(effect_of(program))
     return ("different", program.commands, other.commands), length
 
 

@@ -4,7 +4,7 @@ from undotables.errors import InvalidChanges, InvalidCount, NotAnEffect
 from undotables.histories import check_names, is_integer
 from undotables.outcomes import check_length
 from undotables.programs import check_program
-from undotables.words import first_alike, parts_after
+from undotables.words import first_alike, parts_after, parts_of
 
 
 def check_undone_count(count, names):
@@ -136,8 +136,10 @@ class Effect:
 def effect_of(program):
     """The effect of a program."""
     check_program(program)
-    names, undone, changes = parts_after((), 0, (), program.commands)
-    return Effect(names, undone, changes)
+    # The parts of an effect would be looked at once more, were they passed to Effect.
+    made = Effect()
+    made.new_names, made.undone_count, made.changes = parts_of(program.commands)
+    return made
 
 
 def check_effect(effect):

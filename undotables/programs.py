@@ -138,10 +138,7 @@ class Program:
                 if known[part] is None:
                     raise InvalidText(text)
             commands.append(known[part])
-        # They are known to be commands, so they are not passed to be looked at again.
-        made = cls()
-        made.commands = tuple(commands)
-        return made
+        return program_of(tuple(commands))
 
     @staticmethod
     def is_command(value):
@@ -202,6 +199,14 @@ class Program:
 
     def __repr__(self):
         return f"Program({len(self.commands)})"
+
+
+def program_of(commands):
+    """The program of these commands, which are known to be ones."""
+    # Each of them would be looked at once more, were they passed to Program.
+    made = Program()
+    made.commands = commands
+    return made
 
 
 def check_program(program):
