@@ -166,6 +166,31 @@ class EffectTest(CheckerCase):
         self.check(True, ("effect", (UNDO,), (), 0, ((0, 3, "undone"),)), None)
         self.check(False, ("effect", (UNDO,), (), 0, ((0, 1, "undone"), (1, 2, "undone"))), None)
 
+    def test_changes_that_change_nothing(self):
+        for changes in (((5, 0, 0),), ((5, 0, "old"),), ((5, 0, "undone"),), ((0, 0, "undone"),), ((-1, 1, "undone"),)):
+            self.check(False, ("effect", (DO, ("do", "b")), ("a", "b"), 0, changes), None)
+
+    def test_changes_in_another_sequence(self):
+        for changes in (((7, 1, "undone"), (8, 1, 0)), ((7, 2, "old"), (9, 1, 0)), ((3, 1, "undone"), (4, 1, "old")),
+                        ((3, 1, 0), (5, 1, 0)), ((3, 2, "undone"), (6, 2, "undone"))):
+            effect = Effect(("a", "b", "c"), 0, changes)
+            commands = program_for(effect).commands
+            self.check(True, ("effect", commands, effect.new_names, 0, changes), None)
+            self.check(False, ("effect", commands, effect.new_names, 0, changes[::-1]), None)
+            self.check(False, ("effect", commands, effect.new_names, 0, changes + changes[-1:]), None)
+
+    def test_far_behind_the_changes(self):
+        many = ("repeat", BIG, (("undo", BIG),))
+        self.check(True, ("effect", (many,), (), 0, ((0, BIG * BIG, "undone"),)), None)
+        self.check(False, ("effect", (many,), (), 0, ((0, None, "undone"),)), None)
+        self.check(True, ("effect", (many, DO), ("a",), 0, ((0, BIG * BIG, "old"),)), None)
+        self.check(False, ("effect", (many, DO), ("a",), 0, ((0, None, "old"),)), None)
+        back = ("repeat", BIG, (("redo", BIG),))
+        self.check(True, ("effect", (("undo", None), back), (), 0, ((BIG * BIG, None, "undone"),)), None)
+        self.check(False, ("effect", (("undo", None), back), (), 0, ()), None)
+        self.check(True, ("bounds", (DO, ("undo", None), back, DO), (BIG * BIG, None)), None)
+        self.check(False, ("bounds", (DO, ("undo", None), back, DO), (None, None)), None)
+
     def test_great_claims(self):
         draw = random.Random(73)
         for most, turns in ((9, 10 ** 30), (BIG, 3), (BIG, BIG)):
@@ -398,7 +423,8 @@ class CommandsTest(CheckerCase):
                       ("redo", "1"), ("repeat", 0, (UNDO,)), ("repeat", True, (UNDO,)), ("repeat", 2, ()),
                       ("repeat", 2, [UNDO]), ("repeat", 2, (DO,)), ("repeat", 2, (("repeat", 2, (UNDO,)),)),
                       ("repeat", 2), ("repeat", 2, UNDO), ("repeat", None, (UNDO,)), None, 1, "do a", (), (DO,),
-                      ("go", 1), (1, "do"), (EqualToAll(), 1), ("do", EqualToAll()), ("undo", EqualToAll())):
+                      ("go", 1), (1, "do"), (EqualToAll(), 1), (EqualToAll(), "a"), (EqualToAll(), 2, (UNDO,)),
+                      ("do", EqualToAll()), ("undo", EqualToAll()), ("repeat", 2, ((EqualToAll(), 1),))):
             commands = (DO, wrong)
             self.check(False, ("effect", commands, ("a",), 0, ()), None)
             self.check(False, ("same", commands, (DO,)), (("a",), 0, ()))

@@ -60,9 +60,6 @@ def program_for(effect):
     undone = effect.undone_count
     items = [(undone, "undone"), (len(effect.new_names) - undone, "keep")]
     others = [(times, what) for times, what in runs if what == "keep" or what == "undone"]
-    behind = steps_for(items + others)
-    if not effect.new_names:
-        return program_of(tuple(behind))
     # The first do turns each "undone" to "old"; the steps behind the last do leave "old" and the losses as they are.
     olds = [(times, "undone" if what == "old" else "keep") for times, what in runs]
-    return program_of(tuple(steps_for(olds) + commands_for_items(effect) + behind))
+    return program_of(tuple(steps_for(olds) + commands_for_items(effect) + steps_for(items + others)))

@@ -71,16 +71,20 @@ def run_on(commands, length):
     dos = []
     done = 0
     for command in commands:
-        size = kept + len(dos)
-        if command[0] == "do":
+        word, what = command[0], command[1]
+        if word == "undo":
+            past = 0 if what is None or what > past else past - what
+        elif word == "redo":
+            size = kept + len(dos)
+            past = size if what is None or what > size - past else past + what
+        elif word == "do":
             kept = min(kept, past)
-            dos = [*dos[:past - kept], done]
+            del dos[past - kept:]
+            dos.append(done)
             done += 1
             past = kept + len(dos)
-        elif command[0] == "repeat":
-            past = after_repeat(command[1], command[2], past, size)
         else:
-            past = after_steps((command,), past, size)
+            past = after_repeat(what, command[2], past, kept + len(dos))
     return kept, dos, kept + len(dos) - past
 
 
@@ -121,7 +125,7 @@ def can_stand_behind(change, before):
     length, times, what = before
     if times is None or change[0] < length + times:
         return False
-    return isinstance(what, int) or isinstance(change[2], int) or change[2] != what or change[0] > length + times
+    return isinstance(what, int) or change[2] != what or change[0] > length + times
 
 
 def is_effect(names, count, changes):
@@ -163,7 +167,7 @@ def has_effect(commands, names, count, changes):
     for length, times, what in changes:
         ends.extend([length, length if times is None else length + times])
     far = max(ends[-1], reach_of(commands))
-    for length in [*ends, far, far + 1]:
+    for length in sorted(set([*ends, far, far + 1])):
         if outcome_on(commands, length) != outcome_told(names, count, changes, length):
             return False
     return True
@@ -174,15 +178,18 @@ def has_bounds(commands, bounds):
     dos = len([command for command in commands if command[0] == "do"])
     if not isinstance(bounds, tuple) or len(bounds) != dos:
         return False
+    if not all([bound is None or is_integer(bound, 0) for bound in bounds]):
+        return False
     # What is kept for the reach is always kept.
-    far = run_on(commands, reach_of(commands))[1]
+    far = reach_of(commands)
+    ends = [far if bound is None else bound for bound in bounds]
+    lengths = sorted(set([max(0, end - less) for end in ends for less in (0, 1)]))
+    kept = {length: run_on(commands, length)[1] for length in lengths}
     for do, bound in enumerate(bounds):
         if bound is None:
-            if do not in far:
+            if do not in kept[far]:
                 return False
-        elif not is_integer(bound, 0) or do in run_on(commands, bound)[1]:
-            return False
-        elif bound > 0 and do not in run_on(commands, bound - 1)[1]:
+        elif do in kept[bound] or bound > 0 and do not in kept[bound - 1]:
             return False
     return True
 

@@ -1,13 +1,10 @@
 """Whether programs leave the same, and where they do not."""
 
 from undotables.effects import effect_of
-from undotables.programs import check_program
 
 
 def same(program, other):
     """True if both programs have the same outcomes for all lengths."""
-    check_program(program)
-    check_program(other)
     return effect_of(program) == effect_of(other)
 
 
@@ -29,8 +26,6 @@ def first_other_word(changes, others):
 
 def difference(program, other):
     """The least length for which the outcomes of the programs differ, or None."""
-    check_program(program)
-    check_program(other)
     one, two = effect_of(program), effect_of(other)
     if one == two:
         return None
@@ -42,7 +37,5 @@ def difference(program, other):
 
 def alike(*programs):
     """True if all these programs have the same outcomes for all lengths."""
-    for program in programs:
-        check_program(program)
     effects = [effect_of(program) for program in programs]
     return all([effect == effects[0] for effect in effects])
