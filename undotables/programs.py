@@ -116,11 +116,11 @@ class Program:
         for at, command in enumerate(commands):
             if not Program.is_command(command):
                 raise InvalidProgram(at)
-        self.commands = commands
-        # Those of programs are known to be commands, so a sum need not look at each of them again.
+        # What programs have is known to be commands, so a sum, which joins them, need not look at each of them again.
         for program in joined:
             check_program(program)
-            self.commands = self.commands + program.commands
+            commands = commands + program.commands
+        self.commands = commands
 
     @classmethod
     def read(cls, text):
