@@ -218,6 +218,9 @@ def state_after_do(names, losses, turns, name):
     same = len(losses)
     while same > 0 and losses[same - 1][0] > place:
         same -= 1
+    if same > 0 and losses[same - 1][1] is None:
+        # No lengths are left behind an endless loss.
+        return names + (name,), losses, [(None, "keep")]
     if turns[1:] == [(1, "undone"), (None, "keep")]:
         # Behind this slot the last new item alone is discarded, which was kept for all lengths so far.
         later = [(ahead - 1, many, what) for ahead, many, what in losses[same:]]
